@@ -3,11 +3,14 @@ package refill
 
 import (
 	"refill/api"
+	"refill/box"
 	"refill/word"
 )
 
 // Box holds pieces, and what follows from them.
-type Box struct{}
+type Box struct {
+	held box.Box
+}
 
 // Catcher hears packets.
 type Catcher struct{}
@@ -25,16 +28,22 @@ func Spare(s api.Spec, data []string) ([]string, api.Errno) { return word.Spare(
 func Fits(s api.Spec, pieces []string) (bool, api.Errno) { return word.Fits(s, pieces) }
 
 // New makes an empty box (P6).
-func New(s api.Spec, size int) (*Box, api.Errno) { return nil, api.OK }
+func New(s api.Spec, size int) (*Box, api.Errno) {
+	empty, e := box.New(s, size)
+	if e != api.OK {
+		return nil, e
+	}
+	return &Box{held: empty}, api.OK
+}
 
 // Put puts a piece in (P7).
-func (b *Box) Put(i int, piece string) api.Errno { return api.OK }
+func (b *Box) Put(i int, piece string) api.Errno { return b.held.Put(i, piece) }
 
 // Get gives a piece that follows (P8).
-func (b *Box) Get(i int) (string, api.Errno) { return "", api.OK }
+func (b *Box) Get(i int) (string, api.Errno) { return b.held.Get(i) }
 
 // Need tells how many more pieces it takes at least (P9).
-func (b *Box) Need() int { return 0 }
+func (b *Box) Need() int { return b.held.Need() }
 
 // Send makes the packets of an object (P10).
 func Send(s api.Spec, size int, object string) ([]string, api.Errno) { return nil, api.OK }
