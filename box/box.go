@@ -86,6 +86,19 @@ func (b *Box) Get(i int) (string, api.Errno) {
 	return left.piece, api.OK
 }
 
+// Data gives all data, one piece after the other; ErrOpen, if one of them does not follow.
+func (b *Box) Data() (string, api.Errno) {
+	data := make([]byte, 0, api.MaxData*api.MaxSize)
+	for i := 0; i < b.data; i++ {
+		piece, e := b.Get(i)
+		if e != api.OK {
+			return "", e
+		}
+		data = append(data, piece...)
+	}
+	return string(data), api.OK
+}
+
 // Need tells how many more pieces it takes at least (P9): each that does not follow yet makes one more sum known, and as many as there are data tell all.
 func (b *Box) Need() int {
 	need := 0

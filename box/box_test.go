@@ -104,3 +104,33 @@ func TestNoBoxWithAnError(t *testing.T) {
 		}
 	}
 }
+
+func TestData(t *testing.T) {
+	b, _ := New(api.Spec{Data: 2, Spare: 2, Ones: 1, Seed: 0}, 2)
+	for _, c := range []struct {
+		i     int
+		piece string
+		data  string
+		want  api.Errno
+	}{
+		{1, "cd", "", api.ErrOpen},
+		{1, "cd", "", api.ErrOpen},
+		{3, "\x02\x06", "abcd", api.OK},
+		{0, "ab", "abcd", api.OK},
+	} {
+		if e := b.Put(c.i, c.piece); e != api.OK {
+			t.Fatalf("Put(%d, %x) = %d", c.i, c.piece, e)
+		}
+		if data, e := b.Data(); data != c.data || e != c.want {
+			t.Errorf("after Put(%d, %x) Data = %x, %d, want %x, %d", c.i, c.piece, data, e, c.data, c.want)
+		}
+	}
+	b, _ = New(api.Spec{Data: 2, Spare: 2, Ones: 1, Seed: 0}, 2)
+	if data, e := b.Data(); data != "" || e != api.ErrOpen {
+		t.Errorf("of an empty box Data = %x, %d", data, e)
+	}
+	b.Put(0, "ab")
+	if data, e := b.Data(); data != "" || e != api.ErrOpen {
+		t.Errorf("of a box with piece 0 alone Data = %x, %d", data, e)
+	}
+}

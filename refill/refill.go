@@ -4,6 +4,7 @@ package refill
 import (
 	"refill/api"
 	"refill/box"
+	"refill/objects"
 	"refill/word"
 )
 
@@ -13,7 +14,9 @@ type Box struct {
 }
 
 // Catcher hears packets.
-type Catcher struct{}
+type Catcher struct {
+	heard objects.Catcher
+}
 
 // Inbox takes sheets.
 type Inbox struct{}
@@ -46,19 +49,21 @@ func (b *Box) Get(i int) (string, api.Errno) { return b.held.Get(i) }
 func (b *Box) Need() int { return b.held.Need() }
 
 // Send makes the packets of an object (P10).
-func Send(s api.Spec, size int, object string) ([]string, api.Errno) { return nil, api.OK }
+func Send(s api.Spec, size int, object string) ([]string, api.Errno) {
+	return objects.Send(s, size, object)
+}
 
 // Listen makes a catcher that has heard nothing (P11).
-func Listen() *Catcher { return nil }
+func Listen() *Catcher { return &Catcher{} }
 
 // Hear takes what arrives (P11).
-func (c *Catcher) Hear(packet string) api.Errno { return api.OK }
+func (c *Catcher) Hear(packet string) api.Errno { return c.heard.Hear(packet) }
 
 // Object gives the object (P12).
-func (c *Catcher) Object() (string, api.Errno) { return "", api.OK }
+func (c *Catcher) Object() (string, api.Errno) { return c.heard.Object() }
 
 // Wants tells how many more packets it takes at least (P12).
-func (c *Catcher) Wants() int { return 0 }
+func (c *Catcher) Wants() int { return c.heard.Wants() }
 
 // Mail makes the sheets of a large object, in an order that is drawn (P13).
 func Mail(s api.Spec, size int, object string, order int) ([]string, api.Errno) {

@@ -81,7 +81,7 @@ func expectedRows(s api.Spec) [][]int {
 // isWord tells for each byte and row whether the sum is nought.
 func isWord(s api.Spec, pieces []string) bool {
 	for _, row := range expectedRows(s) {
-		for k := range pieces[0] {
+		for k := 0; k < len(pieces[0]); k++ {
 			var sum byte
 			for _, n := range row {
 				sum ^= pieces[n][k]
