@@ -10,6 +10,11 @@ import (
 // lengthBytes is the number of bytes that tell an object's length.
 const lengthBytes = 2
 
+// Room gives the length of the longest object that has so many pieces of data of this size; it is below 0, where there is none.
+func Room(count, size int) int {
+	return count*size - lengthBytes
+}
+
 // Send makes the packets of an object (P10).
 func Send(s api.Spec, size int, object string) ([]string, api.Errno) {
 	if !word.MayBe(s) {
@@ -18,7 +23,7 @@ func Send(s api.Spec, size int, object string) ([]string, api.Errno) {
 	if size < 1 || size > api.MaxSize {
 		return nil, api.ErrArg
 	}
-	if len(object) > s.Data*size-lengthBytes {
+	if len(object) > Room(s.Data, size) {
 		return nil, api.ErrShape
 	}
 	pieces := dataOf(s.Data, size, object)

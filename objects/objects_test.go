@@ -79,3 +79,22 @@ func TestACatcherThatHasTakenNothing(t *testing.T) {
 		t.Errorf("Object = %q, %d; Wants = %d; held %v", object, e, c.Wants(), c.held)
 	}
 }
+
+func TestRoomIsWhatSendTakes(t *testing.T) {
+	s := api.Spec{Data: 2, Spare: 2, Ones: 1, Seed: 0}
+	for _, c := range []struct{ size, room int }{{1, 0}, {2, 2}, {3, 4}, {16, 30}} {
+		room := Room(2, c.size)
+		if room != c.room {
+			t.Errorf("Room(2, %d) = %d, want %d", c.size, room, c.room)
+		}
+		if _, e := Send(s, c.size, strings.Repeat("a", c.room)); e != api.OK {
+			t.Errorf("Send of %d bytes: %d", c.room, e)
+		}
+		if _, e := Send(s, c.size, strings.Repeat("a", c.room+1)); e != api.ErrShape {
+			t.Errorf("Send of %d bytes: %d", c.room+1, e)
+		}
+	}
+	if room := Room(1, 1); room >= 0 {
+		t.Errorf("Room(1, 1) = %d, but not even an empty object has its length in one byte", room)
+	}
+}

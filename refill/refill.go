@@ -4,6 +4,7 @@ package refill
 import (
 	"refill/api"
 	"refill/box"
+	"refill/large"
 	"refill/objects"
 	"refill/word"
 )
@@ -19,7 +20,9 @@ type Catcher struct {
 }
 
 // Inbox takes sheets.
-type Inbox struct{}
+type Inbox struct {
+	taken large.Inbox
+}
 
 // Rows tells which pieces sum to nought (P3).
 func Rows(s api.Spec) ([][]int, api.Errno) { return word.Rows(s) }
@@ -67,17 +70,17 @@ func (c *Catcher) Wants() int { return c.heard.Wants() }
 
 // Mail makes the sheets of a large object, in an order that is drawn (P13).
 func Mail(s api.Spec, size int, object string, order int) ([]string, api.Errno) {
-	return nil, api.OK
+	return large.Mail(s, size, object, order)
 }
 
 // Open makes an inbox that has taken nothing (P14).
-func Open() *Inbox { return nil }
+func Open() *Inbox { return &Inbox{} }
 
 // Take takes a sheet (P14).
-func (x *Inbox) Take(sheet string) api.Errno { return api.OK }
+func (x *Inbox) Take(sheet string) api.Errno { return x.taken.Take(sheet) }
 
 // Whole gives the large object (P15).
-func (x *Inbox) Whole() (string, api.Errno) { return "", api.OK }
+func (x *Inbox) Whole() (string, api.Errno) { return x.taken.Whole() }
 
 // Lacks tells how many more sheets it takes at least (P15).
-func (x *Inbox) Lacks() int { return 0 }
+func (x *Inbox) Lacks() int { return x.taken.Lacks() }
